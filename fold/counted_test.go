@@ -124,6 +124,43 @@ func TestCountedGraphs(t *testing.T) {
 	}
 }
 
+// P15.1, P15.3: graphs with eligible nodes of Merge, which objects don't make; such nodes are alike for good if they are at one Spot.
+func TestCountedPieces(t *testing.T) {
+	var c counter
+	piece := func(b string, ent int) api.Node {
+		return changed(code(b), func(n *api.Node) { n.Flags |= api.Merge; n.Ent = ent })
+	}
+	pieces := []api.Node{piece("abcd", 4), piece("abcd", 4), piece("abcd", 8), piece("bcde", 4), text("ab\x00"), text("b\x00"), data("ab")}
+	folded := 0
+	for range 6000 {
+		many := 2 + c.next(11)
+		var g api.Graph
+		var l []int
+		for i := range many {
+			if c.next(2) == 0 {
+				g.Nodes = append(g.Nodes, pieces[c.next(len(pieces))])
+				continue
+			}
+			n := calls(c.next(many+1) - 1)
+			if c.next(3) == 0 {
+				n = calls(c.next(many+1)-1, c.next(many+1)-1)
+			}
+			if c.next(12) == 0 {
+				l = append(l, i)
+			}
+			g.Nodes = append(g.Nodes, n)
+		}
+		for i, f := range hold(t, g, all(g), l, join.Join(g, all(g))) {
+			if f != i && len(g.Nodes[i].Edges) > 0 {
+				folded++
+			}
+		}
+	}
+	if folded < 1500 {
+		t.Errorf("%d nodes with edges are folded", folded)
+	}
+}
+
 // mustBe holds faces of nodes of which all are kept, none is a root, and none are joined, without the plain reading.
 func mustBe(t *testing.T, g api.Graph, want []int) {
 	t.Helper()
